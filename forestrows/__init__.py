@@ -1,0 +1,1 @@
+"""Forestrows: ordered forests kept as table rows in three layouts."""
