@@ -5,7 +5,7 @@ import unittest
 from forestrows.deeds import Cut
 from forestrows.errors import NoNode, NoPlace
 from forestrows.forests import Forest
-from shapes import all_rows, grown, large_levels, rows_of
+from shapes import all_rows, grown, rows_of
 
 GREAT = 10 ** 30
 ROWS = [("a", 1, 0), ("b", 2, 1), ("c", 3, 2), ("d", 4, 1), ("e", 5, 0)]
@@ -32,10 +32,10 @@ def expected(tree, roots):
     }
 
 
-def lowest_with_both(walk, one, other):
-    """The name of the lowest tree of a walk that holds both, or None."""
-    having = [tree for tree in walk if one in tree.walk() and other in tree.walk()]
-    return max(having, key=lambda tree: len(tree.above())).name if having else None
+def lowest_with_both(holding, one, other):
+    """The name of the lowest node that holds both, or None; the nodes stand in preorder."""
+    having = [name for name, held in holding.items() if one in held and other in held]
+    return having[-1] if having else None
 
 
 class Answers(unittest.TestCase):
@@ -61,13 +61,15 @@ class Answers(unittest.TestCase):
             self.assertEqual(forest.height(), max([len(tree.above()) + 1 for tree in walk], default=0))
 
     def test_of_two_nodes(self):
-        for rows in [rows for rows in all_rows() if len(rows) < 6] + [rows_of(large_levels()["zigzag"][:20])]:
+        for rows in all_rows():
             forest = Forest(rows)
             walk = [tree for root in grown(rows) for tree in root.walk()]
-            for one in walk:
-                for other in walk:
-                    self.assertIs(forest.is_above(one.name, other.name), one in other.above())
-                    self.assertEqual(forest.meet_of(one.name, other.name), lowest_with_both(walk, one, other))
+            holding = {tree.name: {below.name for below in tree.walk()} for tree in walk}
+            for one in holding:
+                for other in holding:
+                    above = one != other and other in holding[one]
+                    self.assertIs(forest.is_above(one, other), above)
+                    self.assertEqual(forest.meet_of(one, other), lowest_with_both(holding, one, other))
 
     def test_without_nodes(self):
         forest = Forest([])
