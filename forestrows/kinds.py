@@ -1,9 +1,10 @@
-"""What counts as an integer, a sequence, a name and a value."""
+"""What counts as an integer, a sequence, a name, a value and a bound."""
 
 LETTERS = "abcdefghijklmnopqrstuvwxyz"
 DIGITS = "0123456789"
 LONGEST_NAME = 8
 GREATEST_VALUE = 10 ** 30
+GREATEST_BOUND = 10 ** 30
 
 
 def is_integer(x):
@@ -26,3 +27,8 @@ def is_name(x):
 def is_value(x):
     """Whether x is a VALUE."""
     return is_integer(x) and -GREATEST_VALUE <= x <= GREATEST_VALUE
+
+
+def is_bound(x):
+    """Whether x is a BOUND."""
+    return is_integer(x) and 1 <= x <= GREATEST_BOUND

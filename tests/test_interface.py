@@ -1,46 +1,114 @@
 """The names, the arguments and the examples of the interface, for the modules that there are."""
 
+import importlib
 import inspect
 import unittest
 
-from forestrows import deeds, errors, forests
-from forestrows.errors import NoForest
+from forestrows import deeds, errors
+from forestrows.deeds import Move, Put, Wrap
+from forestrows.doing import done
+from forestrows.errors import NoDeed, NoForest
 from forestrows.forests import Forest
+from forestrows.gaps import lasting
+from forestrows.judging import judge_pairs
+from forestrows.labels import labels_between, split_key
+from forestrows.spans import SpanTable
 
-FOREST_METHODS = {
+QUESTIONS = {
     "names": (), "roots": (), "parent_of": ("name",), "children_of": ("name",), "rank_of": ("name",),
     "ancestors_of": ("name",), "descendants_of": ("name",), "level_of": ("name",), "size_of": ("name",),
     "is_above": ("one", "other"), "meet_of": ("one", "other"), "value_of": ("name",), "total_of": ("name",),
     "place_of": ("name",), "name_at": ("place",), "leaves": (), "height": (),
 }
-SIGNS = ("__init__", "__len__", "__contains__", "__iter__", "__add__", "__eq__")
+FUNCTIONS = {
+    "doing": {"done": ("forest", "deed"), "played": ("forest", "deeds"), "undoing": ("forest", "deed")},
+    "keeping": {"span_certificate": ("table", "forest"), "check_spans": ("table", "forest", "thing")},
+    "labels": {"split_key": ("key",), "bytes_of": ("numbers",), "numbers_of": ("data",),
+               "labels_between": ("low", "high", "count")},
+    "judging": {"judge_spans": ("rows", "most"), "judge_keys": ("rows",), "judge_pairs": ("rows",),
+                "walk_spans": ("rows",)},
+    "gaps": {"lasting": ("free",), "placed": ("free",)},
+}
+CLASSES = {
+    "forests": {"Forest": ("rows",)},
+    "tables": {"Change": ("added", "gone", "changed"), "Certificate": ("kept", "worths", "heights")},
+    "judging": {"Fault": ("place", "word")},
+    "spans": {"Span": ("left", "right"), "SpanTable": ("rows", "most")},
+}
+METHODS = {
+    "Forest": QUESTIONS,
+    "SpanTable": {**QUESTIONS, "set_bound": ("bound",), "forest": (), "span_of": ("name",), "become": ("forest",),
+                  "apply": ("deed",)},
+}
+SIGNS = {
+    "Forest": "init len contains iter add eq",
+    "Change": "init eq",
+    "Certificate": "init eq",
+    "Fault": "init eq",
+    "Span": "init eq contains lshift",
+    "SpanTable": "init len contains iter getitem setitem",
+}
+
+
+def module(name):
+    return importlib.import_module("forestrows." + name)
+
+
+def classes():
+    """All classes of CLASSES, each with its file's name and its parameters."""
+    return [(getattr(module(place), name), place, given) for place, names in CLASSES.items()
+            for name, given in names.items()]
 
 
 class Interface(unittest.TestCase):
-    def test_the_forest_takes_rows(self):
-        self.assertEqual(list(inspect.signature(Forest).parameters), ["rows"])
+    def check(self, function, parameters):
+        """The parameters in their order, each by place or by keyword, without default values."""
+        found = inspect.signature(function).parameters
+        self.assertEqual(tuple(found), tuple(parameters), function)
+        self.assertLessEqual({one.kind for one in found.values()}, {inspect.Parameter.POSITIONAL_OR_KEYWORD})
+        self.assertLessEqual({one.default for one in found.values()}, {inspect.Parameter.empty})
+
+    def test_functions_and_where_they_are_defined(self):
+        for place, functions in FUNCTIONS.items():
+            for name, parameters in functions.items():
+                function = getattr(module(place), name)
+                self.check(function, parameters)
+                self.assertEqual(function.__module__, "forestrows." + place)
+
+    def test_classes_and_where_they_are_defined(self):
+        for one, place, parameters in classes():
+            self.check(one, parameters)
+            self.assertEqual(one.__module__, "forestrows." + place)
+        for place in (deeds, errors):
+            for name, thing in vars(place).items():
+                if isinstance(thing, type):
+                    self.assertEqual(thing.__module__, place.__name__, name)
 
     def test_methods_stand_in_the_class_itself(self):
-        for name, parameters in FOREST_METHODS.items():
-            method = vars(Forest)[name]
-            self.assertEqual(tuple(inspect.signature(method).parameters), ("self", *parameters))
-            kinds = {one.kind for one in inspect.signature(method).parameters.values()}
-            self.assertEqual(kinds, {inspect.Parameter.POSITIONAL_OR_KEYWORD})
-        for name in SIGNS:
-            self.assertIn(name, vars(Forest))
+        for one, _, _ in classes():
+            for name, parameters in METHODS.get(one.__name__, {}).items():
+                self.check(vars(one)[name], ("self", *parameters))
+            for sign in SIGNS[one.__name__].split():
+                self.assertIn(f"__{sign}__", vars(one))
+
+    def test_what_is_passed_by_keyword_alone(self):
+        self.assertIsInstance(vars(SpanTable)["laid"], classmethod)
+        parameters = inspect.signature(SpanTable.laid).parameters
+        self.assertEqual({one.name: one.kind for one in parameters.values()},
+                         {"forest": inspect.Parameter.POSITIONAL_OR_KEYWORD, "most": inspect.Parameter.KEYWORD_ONLY})
+
+    def test_properties(self):
+        self.assertIsInstance(vars(SpanTable)["limit"], property)
+
+    def test_fields_are_set_when_an_object_is_created(self):
+        self.assertIn("rows", vars(Forest([])))
+        self.assertIn("rows", vars(SpanTable([], 1)))
 
     def test_class_values(self):
         self.assertEqual(vars(Forest)["MOST"], 60)
 
-    def test_classes_are_defined_in_their_files(self):
-        self.assertEqual(Forest.__module__, "forestrows.forests")
-        for module in (deeds, errors):
-            for name, thing in vars(module).items():
-                if isinstance(thing, type):
-                    self.assertEqual(thing.__module__, module.__name__, name)
-
     def test_no_class_derives_from_another_one(self):
-        for one in (Forest, *[thing for thing in vars(deeds).values() if isinstance(thing, type)]):
+        for one in [*[one for one, _, _ in classes()], *[one for one in vars(deeds).values() if isinstance(one, type)]]:
             self.assertEqual(one.__bases__, (object,))
 
 
@@ -54,6 +122,38 @@ class Examples(unittest.TestCase):
         with self.assertRaises(NoForest) as caught:
             Forest([('a', 1, 0), ('b', 2, 2)])
         self.assertEqual((caught.exception.place, caught.exception.why), (1, 'level'))
+
+    def test_done(self):
+        forest = Forest([('a', 1, 0), ('b', 2, 1), ('c', 3, 2), ('d', 4, 1), ('e', 5, 0)])
+        self.assertEqual(done(forest, Wrap('w', 9, 'a', 0, 2)).rows,
+                         (('a', 1, 0), ('w', 9, 1), ('b', 2, 2), ('c', 3, 3), ('d', 4, 2), ('e', 5, 0)))
+
+    def test_no_deed(self):
+        with self.assertRaises(NoDeed) as caught:
+            done(Forest([('a', 1, 0), ('b', 2, 1), ('c', 3, 2)]), Move('a', 'c', 0))
+        self.assertEqual(caught.exception.why, 'below')
+
+    def test_laid(self):
+        self.assertEqual(SpanTable.laid(Forest([('a', 1, 0), ('b', 2, 1), ('c', 3, 0)]), most=60).rows,
+                         (('a', 1, 5, 35), ('b', 2, 15, 25), ('c', 3, 45, 55)))
+
+    def test_apply(self):
+        table = SpanTable.laid(Forest([('a', 1, 0), ('b', 2, 1), ('c', 3, 0)]), most=8)
+        change = table.apply(Put('d', 4, 'a', 1))
+        self.assertEqual((change.added, change.gone, change.changed, table.rows),
+                         (('d',), (), ('a', 'b'), (('a', 1, 0, 5), ('b', 2, 1, 2), ('d', 4, 3, 4), ('c', 3, 6, 7))))
+
+    def test_lasting(self):
+        self.assertEqual([lasting(free) for free in (0, 2, 8, 26)], [0, 1, 2, 3])
+
+    def test_labels(self):
+        self.assertEqual((split_key(b'\x02\x03\x04'), labels_between(b'\x02', b'\x04', 2)),
+                         ([b'\x02', b'\x03\x04'], [b'\x03\x02', b'\x03\x04']))
+
+    def test_judge_pairs(self):
+        fault = judge_pairs([('a', 'b', 1, 0, 7), ('a', 'a', 0, 0, 5)])
+        right = judge_pairs([('a', 'a', 0, 0, 5), ('a', 'b', 1, 0, 7), ('b', 'b', 0, 0, 7)])
+        self.assertEqual((fault.place, fault.word, right), (0, 'self', None))
 
 
 if __name__ == "__main__":

@@ -1,10 +1,10 @@
-"""Integers, sequences, names and values ([2], [3])."""
+"""Integers, sequences, names, values and bounds ([2], [3], [7])."""
 
 import unittest
 
 from forestrows.deeds import Cut
 from forestrows.forests import Forest
-from forestrows.kinds import is_integer, is_name, is_sequence, is_value
+from forestrows.kinds import is_bound, is_integer, is_name, is_sequence, is_value
 
 THINGS = [None, True, False, 0, -1, 10 ** 31, "", "a", "A", b"", b"a", bytearray(b"a"), [], ["a"], (), ("a",),
           {}, {"a": 1}, range(2), len, int, ..., Forest([]), Cut("a"), Cut, slice(1)]
@@ -36,9 +36,15 @@ class Kinds(unittest.TestCase):
         for x in (10 ** 30 + 1, -10 ** 30 - 1, True, False, None, "1", [1]):
             self.assertIs(is_value(x), False, x)
 
+    def test_bounds(self):
+        for x in (1, 2, 10 ** 30):
+            self.assertIs(is_bound(x), True, x)
+        for x in (0, -1, 10 ** 30 + 1, True, False, None, "1", [1]):
+            self.assertIs(is_bound(x), False, x)
+
     def test_anything_may_be_asked(self):
         for x in THINGS:
-            for ask in (is_integer, is_sequence, is_name, is_value):
+            for ask in (is_integer, is_sequence, is_name, is_value, is_bound):
                 self.assertIsInstance(ask(x), bool)
         self.assertEqual([x for x in THINGS if is_name(x)], ["a"])
 

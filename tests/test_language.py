@@ -240,5 +240,52 @@ class Values(unittest.TestCase):
         self.assertEqual([where for where, _ in nodes(ast.GeneratorExp)], [])
 
 
+class Combined(unittest.TestCase):
+    """Rules for a package that makes bytes, has operators and tables, and has generators."""
+
+    def test_no_remainders_of_what_may_be_bytes(self):
+        self.assertEqual([where for where, node in nodes(ast.BinOp) if isinstance(node.op, ast.Mod)], [])
+
+    def test_no_products_beside_objects_that_are_iterated_over(self):
+        used = {name for path in FILES for _, name in imported(tree_of(path))}
+        self.assertEqual(used & {"product", "combinations", "permutations"}, set())
+
+    def test_reversed_and_sort(self):
+        for where, node in nodes(ast.Call):
+            if isinstance(node.func, ast.Name) and node.func.id == "reversed":
+                self.assertRegex(ast.unparse(node.args[0]), r"\A(list|tuple|sorted|range)\(", where)
+            self.assertNotEqual(getattr(node.func, "attr", ""), "sort", where)
+
+    def test_tables_say_that_they_are_not_iterated_over(self):
+        for where, node in nodes(ast.ClassDef):
+            methods = [one.name for one in node.body if isinstance(one, ast.FunctionDef)]
+            if "__getitem__" in methods:
+                self.assertIn("__iter__", methods, where)
+
+    def test_generators_are_iterated_on_the_spot(self):
+        functions = [node for _, node in nodes(ast.FunctionDef)]
+        makers = [one.name for one in functions if any(isinstance(node, (ast.Yield, ast.YieldFrom))
+                                                       for node in ast.walk(one))]
+        for name in makers:
+            self.assertEqual([one.name for one in functions].count(name), 1)
+            self.assertNotIn(name, METHODS)
+        spots = {id(node.iter) for _, node in nodes_and_parts((ast.For, ast.comprehension))}
+        for where, node in nodes_and_parts(ast.Call):
+            if isinstance(node.func, ast.Name) and node.func.id in makers:
+                self.assertIn(id(node), spots, where)
+        called = {id(node.func) for _, node in nodes_and_parts(ast.Call)}
+        for where, node in nodes_and_parts(ast.Name):
+            self.assertFalse(node.id in makers and id(node) not in called, where)
+
+
+TREES = {path.name: tree_of(path) for path in FILES}
+
+
+def nodes_and_parts(kind):
+    """All nodes of a kind, of trees that stay the same from call to call."""
+    return [(f"{name}:{getattr(node, 'lineno', 0)}", node) for name, tree in TREES.items()
+            for node in ast.walk(tree) if isinstance(node, kind)]
+
+
 if __name__ == "__main__":
     unittest.main()
