@@ -5,7 +5,7 @@ shifts.
 """
 
 from forestrows.errors import Full
-from forestrows.kinds import is_integer, is_name
+from forestrows.kinds import has_integers, is_name
 from forestrows.spacing import ends_of
 from forestrows.tables import Certificate
 
@@ -24,10 +24,10 @@ def check_spans(table, forest, thing):
     found = _candidates(table.rows, forest, table.limit)
     if not isinstance(thing, Certificate) or not _is_kept(thing.kept, found):
         return False
-    if not _has_integers(thing.worths, list(found)):
+    if not has_integers(thing.worths, list(found)):
         return False
     boxes = _boxes(found)
-    if not _has_integers(thing.heights, [(box, name) for box in boxes for name in boxes[box]]):
+    if not has_integers(thing.heights, [(box, name) for box in boxes for name in boxes[box]]):
         return False
     if not all([thing.heights[(None, name)] <= len(thing.kept) for name in found]):
         return False
@@ -115,11 +115,6 @@ def _is_kept(kept, found):
     # A candidate does not fit itself, so that different ones are asked for, too.
     return all([_fit(found[name], found[other])
                 for place, name in enumerate(kept) for other in kept[:place]])
-
-
-def _has_integers(numbers, wanted):
-    """Whether something is a dict with an integer for each wanted key."""
-    return isinstance(numbers, dict) and all([is_integer(numbers.get(key)) for key in wanted])
 
 
 def _is_proved(box, names, found, thing):

@@ -1,4 +1,4 @@
-"""What counts as an integer, a sequence, a name, a value and a bound."""
+"""What counts as an integer, a sequence, a name, a value and a bound; dicts of integers."""
 
 LETTERS = "abcdefghijklmnopqrstuvwxyz"
 DIGITS = "0123456789"
@@ -32,3 +32,8 @@ def is_value(x):
 def is_bound(x):
     """Whether x is a BOUND."""
     return is_integer(x) and 1 <= x <= GREATEST_BOUND
+
+
+def has_integers(numbers, wanted):
+    """Whether something is a dict with an integer for each wanted key."""
+    return isinstance(numbers, dict) and all([is_integer(numbers.get(key)) for key in wanted])

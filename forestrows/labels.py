@@ -54,6 +54,11 @@ def labels_between(low, high, count):
     word = _wrong_word(low, high, count)
     if word is not None:
         raise NoLabel(word)
+    return first_labels(low, high, count)
+
+
+def first_labels(low, high, count):
+    """As labels_between, for labels of any length, since those that tables make have no bound."""
     found = []
     length = 1
     while len(found) < count:

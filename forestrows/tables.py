@@ -7,9 +7,9 @@ class Change:
     """The keys of the rows that were added, that are gone and that are others now."""
 
     def __init__(self, added, gone, changed):
-        self.added = _stored(added)
-        self.gone = _stored(gone)
-        self.changed = _stored(changed)
+        self.added = stored(added)
+        self.gone = stored(gone)
+        self.changed = stored(changed)
 
     def __eq__(self, other):
         return (isinstance(other, Change) and self.added == other.added and self.gone == other.gone
@@ -20,9 +20,9 @@ class Certificate:
     """The names whose rows are kept, and the numbers that show that no more can be."""
 
     def __init__(self, kept, worths, heights):
-        self.kept = _stored(kept)
-        self.worths = _stored(worths)
-        self.heights = _stored(heights)
+        self.kept = stored(kept)
+        self.worths = stored(worths)
+        self.heights = stored(heights)
 
     def __eq__(self, other):
         return (isinstance(other, Certificate) and self.kept == other.kept and self.worths == other.worths
@@ -37,7 +37,7 @@ def change_between(before, after):
     return Change(sorted(added), sorted(gone), sorted(changed))
 
 
-def _stored(x):
+def stored(x):
     """What a field keeps: a sequence as a tuple, a dict as a copy."""
     if is_sequence(x):
         return tuple([_copied(one) for one in x])

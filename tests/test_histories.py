@@ -1,9 +1,12 @@
-"""Whole histories of deeds, forwards and back ([4] to [6])."""
+"""Whole histories of deeds, forwards and back, and in all layouts ([4] to [6], [17])."""
 
 import unittest
 
 from forestrows.doing import done, played, undoing
 from forestrows.forests import Forest
+from forestrows.keys import KeyTable
+from forestrows.pairs import PairTable
+from forestrows.spans import SpanTable
 from playing import answers, history
 from shapes import large_levels, rows_of
 
@@ -41,6 +44,25 @@ class Histories(unittest.TestCase):
                 forest = played(forest, backs[place])[-1]
                 self.assertEqual(forest.rows, steps[place][0])
             self.assertEqual(forest, Forest(rows))
+
+    def test_the_same_answers_in_all_layouts(self):
+        for seed, rows in enumerate(beginnings()):
+            forest = Forest(rows)
+            tables = [SpanTable.laid(forest, most=120 + 40 * seed), KeyTable.laid(forest), PairTable.laid(forest)]
+            for place, (_, deed, behind) in enumerate(history(300 + seed, 40, rows)):
+                forest = done(forest, deed)
+                told = answers(forest, pairs=place % 10 == 0)
+                for table in tables:
+                    table.apply(deed)
+                    self.assertEqual(answers(table, pairs=place % 10 == 0), told)
+                    self.assertEqual(table.forest(), forest)
+                self.assertEqual(forest.rows, behind)
+                if place % 10 == 9:
+                    # Tables of the rows as they are answer alike, too.
+                    again = [SpanTable(tables[0].rows, tables[0].limit), KeyTable(tables[1].rows),
+                             PairTable(tables[2].rows)]
+                    self.assertEqual([answers(table, pairs=False) for table in again],
+                                     [answers(forest, pairs=False)] * 3)
 
     def test_histories_reach_full_forests(self):
         lengths = [len(behind) for seed, rows in enumerate(beginnings()) for _, _, behind in history(seed, 120, rows)]

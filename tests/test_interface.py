@@ -11,7 +11,10 @@ from forestrows.errors import NoDeed, NoForest
 from forestrows.forests import Forest
 from forestrows.gaps import lasting
 from forestrows.judging import judge_pairs
+from forestrows.keys import KeyTable
 from forestrows.labels import labels_between, split_key
+from forestrows.pairs import PairTable
+from forestrows.routes import Route, Test, ValueIn, ask
 from forestrows.spans import SpanTable
 
 QUESTIONS = {
@@ -28,17 +31,25 @@ FUNCTIONS = {
     "judging": {"judge_spans": ("rows", "most"), "judge_keys": ("rows",), "judge_pairs": ("rows",),
                 "walk_spans": ("rows",)},
     "gaps": {"lasting": ("free",), "placed": ("free",)},
+    "matching": {"key_certificate": ("table", "forest"), "check_keys": ("table", "forest", "thing")},
+    "routes": {"ask": ("table", "route", "name"), "turned": ("route",)},
 }
 CLASSES = {
     "forests": {"Forest": ("rows",)},
     "tables": {"Change": ("added", "gone", "changed"), "Certificate": ("kept", "worths", "heights")},
     "judging": {"Fault": ("place", "word")},
     "spans": {"Span": ("left", "right"), "SpanTable": ("rows", "most")},
+    "keys": {"KeyTable": ("rows",)},
+    "pairs": {"PairTable": ("rows",)},
+    "routes": {"Test": (), "NameIs": ("name",), "ValueIn": ("low", "high"), "Has": ("route",), "Route": ("steps",)},
 }
+OF_TABLES = {**QUESTIONS, "forest": (), "become": ("forest",), "apply": ("deed",)}
 METHODS = {
     "Forest": QUESTIONS,
-    "SpanTable": {**QUESTIONS, "set_bound": ("bound",), "forest": (), "span_of": ("name",), "become": ("forest",),
-                  "apply": ("deed",)},
+    "SpanTable": {**OF_TABLES, "set_bound": ("bound",), "span_of": ("name",)},
+    "KeyTable": {**OF_TABLES, "key_of": ("name",)},
+    "PairTable": OF_TABLES,
+    **{kind: {"__call__": ("table", "name")} for kind in ("Test", "NameIs", "ValueIn", "Has")},
 }
 SIGNS = {
     "Forest": "init len contains iter add eq",
@@ -47,6 +58,13 @@ SIGNS = {
     "Fault": "init eq",
     "Span": "init eq contains lshift",
     "SpanTable": "init len contains iter getitem setitem",
+    "KeyTable": "init len contains iter getitem setitem",
+    "PairTable": "init len contains iter getitem setitem",
+    "Test": "and or invert call",
+    "NameIs": "init and or invert call",
+    "ValueIn": "init and or invert call",
+    "Has": "init and or invert call",
+    "Route": "init len",
 }
 
 
@@ -77,7 +95,8 @@ class Interface(unittest.TestCase):
 
     def test_classes_and_where_they_are_defined(self):
         for one, place, parameters in classes():
-            self.check(one, parameters)
+            if "__init__" in vars(one):
+                self.check(one, parameters)
             self.assertEqual(one.__module__, "forestrows." + place)
         for place in (deeds, errors):
             for name, thing in vars(place).items():
@@ -97,19 +116,28 @@ class Interface(unittest.TestCase):
         self.assertEqual({one.name: one.kind for one in parameters.values()},
                          {"forest": inspect.Parameter.POSITIONAL_OR_KEYWORD, "most": inspect.Parameter.KEYWORD_ONLY})
 
+    def test_class_methods(self):
+        for kind in (KeyTable, PairTable):
+            self.assertIsInstance(vars(kind)["laid"], classmethod)
+            self.check(kind.laid, ("forest",))
+
     def test_properties(self):
         self.assertIsInstance(vars(SpanTable)["limit"], property)
 
     def test_fields_are_set_when_an_object_is_created(self):
         self.assertIn("rows", vars(Forest([])))
         self.assertIn("rows", vars(SpanTable([], 1)))
+        self.assertIn("rows", vars(KeyTable([])))
+        self.assertIn("rows", vars(PairTable([])))
+        self.assertIn("steps", vars(Route([])))
 
     def test_class_values(self):
         self.assertEqual(vars(Forest)["MOST"], 60)
 
-    def test_no_class_derives_from_another_one(self):
+    def test_no_class_but_the_tests_derives_from_another_one(self):
         for one in [*[one for one, _, _ in classes()], *[one for one in vars(deeds).values() if isinstance(one, type)]]:
-            self.assertEqual(one.__bases__, (object,))
+            tests = one.__name__ in ("NameIs", "ValueIn", "Has")
+            self.assertEqual(one.__bases__, (Test,) if tests else (object,))
 
 
 class Examples(unittest.TestCase):
@@ -149,6 +177,14 @@ class Examples(unittest.TestCase):
     def test_labels(self):
         self.assertEqual((split_key(b'\x02\x03\x04'), labels_between(b'\x02', b'\x04', 2)),
                          ([b'\x02', b'\x03\x04'], [b'\x03\x02', b'\x03\x04']))
+
+    def test_keys(self):
+        self.assertEqual(KeyTable.laid(Forest([('a', 1, 0), ('b', 2, 1), ('c', 3, 0)])).rows,
+                         (('a', 1, b'\x02'), ('b', 2, b'\x02\x02'), ('c', 3, b'\x04')))
+
+    def test_ask(self):
+        forest = Forest([('a', 1, 0), ('b', 2, 1), ('c', 3, 2), ('d', 4, 1), ('e', 5, 0)])
+        self.assertEqual(ask(forest, Route([('descendant', ValueIn(3, None)), ('parent', None)]), 'a'), ['a', 'b'])
 
     def test_judge_pairs(self):
         fault = judge_pairs([('a', 'b', 1, 0, 7), ('a', 'a', 0, 0, 5)])

@@ -10,6 +10,7 @@ from forestrows.errors import NoBound
 from forestrows.forests import Forest
 from forestrows.judging import Fault, judge_keys, judge_pairs, judge_spans, walk_spans
 from forestrows.spans import Span
+from laying import key_rows, mixed, pair_rows
 from shapes import all_levels, all_rows, grown, large_levels, rows_of
 from spanning import some_numbers, with_numbers
 
@@ -27,45 +28,6 @@ NO_BOUNDS = [None, True, False, 0, -1, GREAT + 1, "1", b"1", [1], (1,), {}, Fore
 def told(fault):
     """A fault as a pair, or None."""
     return None if fault is None else (fault.place, fault.word)
-
-
-def key_rows(rng, rows):
-    """Right key rows of a forest, in preorder, with labels of several lengths."""
-    def label():
-        return bytes(2 * rng.randrange(128) + 1 for _ in range(rng.choice([0, 0, 1, 2]))) + bytes(
-            [2 * rng.randrange(1, 128)])
-
-    found = []
-
-    def walk(trees, start):
-        labels = {}
-        while len(labels) < len(trees):
-            labels[label()] = True
-        for tree, one in zip(trees, sorted(labels)):
-            found.append((tree.name, tree.value, start + one))
-            walk(tree.children, start + one)
-
-    walk(grown(rows), b"")
-    return found
-
-
-def pair_rows(rows):
-    """All pair rows of a forest."""
-    found = []
-    roots = grown(rows)
-    for tree in [one for root in roots for one in root.walk()]:
-        line = [*tree.above(), tree]
-        for place, one in enumerate(line):
-            siblings = one.parent.children if one.parent else roots
-            found.append((one.name, tree.name, len(line) - 1 - place, siblings.index(one), tree.value))
-    return found
-
-
-def mixed(rng, rows):
-    """The rows in another order, as lists or tuples."""
-    rows = [rng.choice([list, tuple])(row) for row in rows]
-    rng.shuffle(rows)
-    return rng.choice([list, tuple])(rows)
 
 
 def spoilt(rng, rows, things):

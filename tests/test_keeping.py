@@ -10,6 +10,7 @@ from forestrows.keeping import check_spans, span_certificate
 from forestrows.spans import SpanTable
 from forestrows.tables import Certificate, Change
 from playing import history
+from proofs import changed
 from shapes import large_levels, rows_of
 from spanning import (can_keep, end_names, fewest_changed, most_kept, shuffled_cases, small_cases, some_numbers,
                       with_numbers)
@@ -59,18 +60,6 @@ class Slow:
         rules += [h[(box, other)] >= h[(box, name)] + w[other] for box in self.boxes for name in self.boxes[box]
                   for other in self.boxes[box] if self.end[name] < self.begin[other] and self.fit(name, other)]
         return all(rules)
-
-
-def changed(proof, kept=None, worths=None, heights=None):
-    """A certificate like another one, with further entries; None takes an entry away."""
-    fields = [dict(proof.worths), dict(proof.heights)]
-    for field, more in zip(fields, (worths or {}, heights or {})):
-        for key, number in more.items():
-            if number is None:
-                del field[key]
-            else:
-                field[key] = number
-    return Certificate(proof.kept if kept is None else kept, *fields)
 
 
 class Certificates(unittest.TestCase):
