@@ -97,7 +97,7 @@ def _span_word(row, most, earlier):
     taken = [number for one in earlier for number in (one[2], one[3])]
     if left in taken or right in taken:
         return "shared"
-    if any([_cross(row, one) for one in earlier]):
+    if any([cross(row[2:], one[2:]) for one in earlier]):
         return "crossed"
     return None
 
@@ -107,9 +107,10 @@ def _is_number(x, most):
     return is_integer(x) and 0 <= x < most
 
 
-def _cross(row, other):
-    """Whether of two span rows with different numbers exactly one number of the one is between those of the other."""
-    return (row[2] < other[2] < row[3]) != (row[2] < other[3] < row[3])
+def cross(span, other):
+    """Whether of two pairs (left, right) with different numbers just one number of one is between those of the other.
+    """
+    return (span[0] < other[0] < span[1]) != (span[0] < other[1] < span[1])
 
 
 def _key_word(row, earlier):

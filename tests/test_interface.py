@@ -1,21 +1,25 @@
-"""The names, the arguments and the examples of the interface, for the modules that there are."""
+"""The names, the arguments and the examples of the interface."""
 
 import importlib
 import inspect
 import unittest
 
 from forestrows import deeds, errors
+from forestrows.books import Book
 from forestrows.deeds import Move, Put, Wrap
+from forestrows.desk import Desk
 from forestrows.doing import done
-from forestrows.errors import NoDeed, NoForest
+from forestrows.errors import BadText, NoDeed, NoForest
 from forestrows.forests import Forest
 from forestrows.gaps import lasting
 from forestrows.judging import judge_pairs
 from forestrows.keys import KeyTable
 from forestrows.labels import labels_between, split_key
+from forestrows.mending import largest_nested
 from forestrows.pairs import PairTable
 from forestrows.routes import Route, Test, ValueIn, ask
 from forestrows.spans import SpanTable
+from forestrows.texts import read_forest
 
 QUESTIONS = {
     "names": (), "roots": (), "parent_of": ("name",), "children_of": ("name",), "rank_of": ("name",),
@@ -33,6 +37,8 @@ FUNCTIONS = {
     "gaps": {"lasting": ("free",), "placed": ("free",)},
     "matching": {"key_certificate": ("table", "forest"), "check_keys": ("table", "forest", "thing")},
     "routes": {"ask": ("table", "route", "name"), "turned": ("route",)},
+    "mending": {"largest_nested": ("spans",), "check_nested": ("spans", "thing"), "largest_keys": ("rows",)},
+    "texts": {"forest_text": ("forest",), "read_forest": ("text",), "deed_text": ("deed",), "read_deed": ("text",)},
 }
 CLASSES = {
     "forests": {"Forest": ("rows",)},
@@ -42,6 +48,9 @@ CLASSES = {
     "keys": {"KeyTable": ("rows",)},
     "pairs": {"PairTable": ("rows",)},
     "routes": {"Test": (), "NameIs": ("name",), "ValueIn": ("low", "high"), "Has": ("route",), "Route": ("steps",)},
+    "mending": {"Nested": ("kept", "bounds")},
+    "books": {"Book": ("forest", "most")},
+    "desk": {"Desk": ("forest", "most")},
 }
 OF_TABLES = {**QUESTIONS, "forest": (), "become": ("forest",), "apply": ("deed",)}
 METHODS = {
@@ -49,6 +58,9 @@ METHODS = {
     "SpanTable": {**OF_TABLES, "set_bound": ("bound",), "span_of": ("name",)},
     "KeyTable": {**OF_TABLES, "key_of": ("name",)},
     "PairTable": OF_TABLES,
+    "Book": {"forest": (), "span_rows": (), "key_rows": (), "pair_rows": (), "do": ("deed",), "do_all": ("deeds",),
+             "undo": (), "redo": (), "many": (), "mark": ("name",), "back_to": ("name",), "set_bound": ("bound",)},
+    "Desk": {"tell": ("row",)},
     **{kind: {"__call__": ("table", "name")} for kind in ("Test", "NameIs", "ValueIn", "Has")},
 }
 SIGNS = {
@@ -65,6 +77,9 @@ SIGNS = {
     "ValueIn": "init and or invert call",
     "Has": "init and or invert call",
     "Route": "init len",
+    "Nested": "init eq",
+    "Book": "init",
+    "Desk": "init",
 }
 
 
@@ -79,12 +94,15 @@ def classes():
 
 
 class Interface(unittest.TestCase):
-    def check(self, function, parameters):
-        """The parameters in their order, each by place or by keyword, without default values."""
+    def check(self, function, parameters, behind_star=()):
+        """The parameters in their order, each by place or by keyword, or by keyword alone, without default values."""
         found = inspect.signature(function).parameters
         self.assertEqual(tuple(found), tuple(parameters), function)
-        self.assertLessEqual({one.kind for one in found.values()}, {inspect.Parameter.POSITIONAL_OR_KEYWORD})
-        self.assertLessEqual({one.default for one in found.values()}, {inspect.Parameter.empty})
+        for name, one in found.items():
+            alone = name in behind_star
+            self.assertEqual(one.kind is inspect.Parameter.KEYWORD_ONLY, alone, function)
+            self.assertEqual(one.kind is inspect.Parameter.POSITIONAL_OR_KEYWORD, not alone, function)
+            self.assertIs(one.default, inspect.Parameter.empty)
 
     def test_functions_and_where_they_are_defined(self):
         for place, functions in FUNCTIONS.items():
@@ -96,7 +114,7 @@ class Interface(unittest.TestCase):
     def test_classes_and_where_they_are_defined(self):
         for one, place, parameters in classes():
             if "__init__" in vars(one):
-                self.check(one, parameters)
+                self.check(one, parameters, ("most",) if one in (Book, Desk) else ())
             self.assertEqual(one.__module__, "forestrows." + place)
         for place in (deeds, errors):
             for name, thing in vars(place).items():
@@ -112,9 +130,7 @@ class Interface(unittest.TestCase):
 
     def test_what_is_passed_by_keyword_alone(self):
         self.assertIsInstance(vars(SpanTable)["laid"], classmethod)
-        parameters = inspect.signature(SpanTable.laid).parameters
-        self.assertEqual({one.name: one.kind for one in parameters.values()},
-                         {"forest": inspect.Parameter.POSITIONAL_OR_KEYWORD, "most": inspect.Parameter.KEYWORD_ONLY})
+        self.check(SpanTable.laid, ("forest", "most"), ("most",))
 
     def test_class_methods(self):
         for kind in (KeyTable, PairTable):
@@ -123,6 +139,7 @@ class Interface(unittest.TestCase):
 
     def test_properties(self):
         self.assertIsInstance(vars(SpanTable)["limit"], property)
+        self.assertIsInstance(vars(Book)["limit"], property)
 
     def test_fields_are_set_when_an_object_is_created(self):
         self.assertIn("rows", vars(Forest([])))
@@ -190,6 +207,19 @@ class Examples(unittest.TestCase):
         fault = judge_pairs([('a', 'b', 1, 0, 7), ('a', 'a', 0, 0, 5)])
         right = judge_pairs([('a', 'a', 0, 0, 5), ('a', 'b', 1, 0, 7), ('b', 'b', 0, 0, 7)])
         self.assertEqual((fault.place, fault.word, right), (0, 'self', None))
+
+    def test_largest_nested(self):
+        self.assertEqual(largest_nested([(0, 4), (2, 6), (3, 5)]).kept, (1, 2))
+
+    def test_bad_text(self):
+        with self.assertRaises(BadText) as caught:
+            read_forest('a=1(b=02)')
+        self.assertEqual(caught.exception.place, 7)
+
+    def test_desk(self):
+        desk = Desk(Forest([('a', 1, 0)]), most=8)
+        self.assertEqual([desk.tell('put b 2 a 0'), desk.tell('forest'), desk.tell('cut c'), desk.tell('pairs')],
+                         [['0 0 0'], ['a=1(b=2)'], ['refused nodeed'], ['3']])
 
 
 if __name__ == "__main__":
