@@ -5,7 +5,7 @@ same level: where x takes the key of y, rows below them can be kept. A dict of f
 by its name, and the roots by None.
 """
 
-from forestrows.kinds import has_integers, is_name
+from forestrows.kinds import has_integers
 from forestrows.tables import Certificate
 
 
@@ -121,8 +121,7 @@ def _is_kept(kept, old, forest):
 
 def _stays(name, old, forest):
     """Whether something is a node of the same level and the same value in both forests."""
-    # A name is asked for first, since not everything can be looked up in a dict.
-    if not is_name(name) or name not in old or name not in forest:
+    if name not in old or name not in forest:
         return False
     return old.level_of(name) == forest.level_of(name) and _match(name, name, old, forest)
 

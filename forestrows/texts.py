@@ -3,7 +3,7 @@
 from forestrows.deeds import Cut, Lift, Move, Put, Reverse, SetValue, Wrap
 from forestrows.errors import BadText, NoDeed
 from forestrows.forests import Forest
-from forestrows.kinds import DIGITS, GREATEST_VALUE, LETTERS, LONGEST_NAME, is_integer, is_name, is_value
+from forestrows.kinds import DIGITS, GREATEST_VALUE, is_integer, is_name, is_value
 
 NO_NODES = "none"
 NO_PARENT = "-"
@@ -117,7 +117,7 @@ def _read_trees(text):
 def _after_name(text, start):
     """The place behind a name that starts at a place, where `=` has to stand."""
     end = start
-    while end < len(text) and end < start + LONGEST_NAME and is_name(text[start:end + 1]):
+    while end < len(text) and is_name(text[start:end + 1]):
         end += 1
     if end == start or text[end:end + 1] != "=":
         raise BadText(end)

@@ -97,7 +97,7 @@ class Doing(Books):
         for seed, levels in enumerate([[], *large_levels().values()]):
             rows = rows_of(levels)
             book = Book(Forest(rows), most=130)
-            for place, (_, deed, behind) in enumerate(history(seed, 30, rows)):
+            for place, (_, deed, behind) in enumerate(history(seed, 18, rows)):
                 told = [table.apply(deed) for table in tables_of(book)]
                 changes = book.do(deed)
                 self.assertIs(type(changes), tuple)
@@ -470,7 +470,7 @@ class Histories(Books):
             forest = Forest(rows)
             book = Book(forest, most=500)
             tables = [SpanTable.laid(forest, most=500), KeyTable.laid(forest), PairTable.laid(forest)]
-            for place, (_, deed, _) in enumerate(history(20 + seed, 30, rows)):
+            for place, (_, deed, _) in enumerate(history(20 + seed, 18, rows)):
                 forest = done(forest, deed)
                 book.do(deed)
                 told = answers(forest, pairs=False)

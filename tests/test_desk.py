@@ -118,8 +118,9 @@ class Desks(unittest.TestCase):
                             ("bound 6 ", "refused badrow"), ("bound  6", "refused badrow"),
                             ("bound 6 6", "refused badrow"), ("bound -6", "refused badrow"),
                             ("bound +6", "refused badrow"), ("bound 6.0", "refused badrow"),
-                            ("bound x", "refused badrow"),
-                            ("bound 00", "refused badrow"), ("bound " + "1" * 31, "refused nobound"),
+                            ("bound x", "refused badrow"), ("bound undo", "refused badrow"),
+                            ("bound redo", "refused badrow"), ("bound 00", "refused badrow"),
+                            ("bound " + "1" * 31, "refused nobound"),
                             ("bound " + "1" * 32, "refused badrow"), ("bound " + "9" * 5000, "refused badrow"),
                             ("bound 0" + "1" * 30, "refused badrow"), ("Bound 7", "refused badrow")):
             self.assertEqual(desk.tell(row), [answer], row)

@@ -49,7 +49,7 @@ class Histories(unittest.TestCase):
         for seed, rows in enumerate(beginnings()):
             forest = Forest(rows)
             tables = [SpanTable.laid(forest, most=120 + 40 * seed), KeyTable.laid(forest), PairTable.laid(forest)]
-            for place, (_, deed, behind) in enumerate(history(300 + seed, 40, rows)):
+            for place, (_, deed, behind) in enumerate(history(300 + seed, 25, rows)):
                 forest = done(forest, deed)
                 told = answers(forest, pairs=place % 10 == 0)
                 for table in tables:
@@ -57,7 +57,7 @@ class Histories(unittest.TestCase):
                     self.assertEqual(answers(table, pairs=place % 10 == 0), told)
                     self.assertEqual(table.forest(), forest)
                 self.assertEqual(forest.rows, behind)
-                if place % 10 == 9:
+                if place % 8 == 7:
                     # Tables of the rows as they are answer alike, too.
                     again = [SpanTable(tables[0].rows, tables[0].limit), KeyTable(tables[1].rows),
                              PairTable(tables[2].rows)]

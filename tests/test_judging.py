@@ -11,7 +11,7 @@ from forestrows.forests import Forest
 from forestrows.judging import Fault, judge_keys, judge_pairs, judge_spans, walk_spans
 from forestrows.spans import Span
 from laying import key_rows, mixed, pair_rows
-from shapes import all_levels, all_rows, grown, large_levels, rows_of
+from shapes import all_levels, all_rows, large_levels, rows_of
 from spanning import some_numbers, with_numbers
 
 GREAT = 10 ** 30

@@ -114,7 +114,7 @@ class Apply(Changes):
         for seed, levels in enumerate([[], [0, 1, 2], *large_levels().values()]):
             rows = rows_of(levels)
             table = KeyTable.laid(Forest(rows))
-            for place, (_, deed, behind) in enumerate(history(70 + seed, 50, rows)):
+            for place, (_, deed, behind) in enumerate(history(70 + seed, 30, rows)):
                 self.apply(table, deed)
                 if place % 12 == 0:
                     self.assertEqual(answers(table), answers(Forest(behind)))
@@ -157,6 +157,21 @@ class LongLabels(Changes):
                 if all(label is None or len(label) <= 1000 for label in (low, high)):
                     self.assertEqual([table.key_of("x")], labels_between(low, high, 1))
             for deed in (Reverse(None), Move("n9", None, 0), Move("n0", "n9", 0), Wrap("x", 1, None, 2, 8), Cut("n5")):
+                self.apply(KeyTable(rows), deed)
+
+    def test_labels_of_several_lengths_beside_one_another(self):
+        for start in (b"\x01" * 2000, b"\xff" * 2000, b"\x07\x09" * 1000, b"\x01\xff" * 1000):
+            labels = sorted(start[:length - 1] + bytes([last]) for length in (1, 2, 999, 1000, 1001, 1990)
+                            for last in (2, 8, 254))
+            rows = [(f"n{place}", place, label) for place, label in enumerate(labels)]
+            for rank in range(len(rows) + 1):
+                table = KeyTable(mixed(RNG, rows))
+                self.assertEqual(self.apply(table, Put("x", 1, None, rank)), Change(("x",), (), ()))
+                if rank and rank < len(rows) and max(len(labels[rank - 1]), len(labels[rank])) <= 1000:
+                    self.assertEqual([table.key_of("x")], labels_between(labels[rank - 1], labels[rank], 1))
+            table = KeyTable(rows)
+            self.assertEqual(answers(table), answers(table.forest()))
+            for deed in (Reverse(None), Wrap("x", 1, None, 3, 15), Move("n0", None, 17)):
                 self.apply(KeyTable(rows), deed)
 
     def test_neighbours_that_leave_no_label_of_their_lengths(self):
