@@ -1,7 +1,8 @@
 """Routes of steps from node to node, and tests of nodes.
 
 The method `met` of a test tells for each place in preorder whether the node there meets it. So each part of a test is
-looked at once for all nodes, however deep it stands.
+looked at once for all nodes, however deep it stands. The classes that the interface names have their signs and their
+call in themselves, since it wants them there.
 """
 
 from forestrows.axes import OPPOSITE, View, is_axis, reached

@@ -9,6 +9,7 @@ NO_NODES = "none"
 NO_PARENT = "-"
 MOST_VALUE_DIGITS = 31
 MOST_RANK_DIGITS = 2
+GREATEST_RANK = 99
 # What stands behind the first word of a deed.
 PARTS = {
     "put": ("name", "value", "parent", "rank"),
@@ -180,7 +181,7 @@ def _can_be_field(field, part):
         return is_value(field)
     if part == "parent":
         return field is None or is_name(field)
-    return is_integer(field) and 0 <= field < 10 ** MOST_RANK_DIGITS
+    return is_integer(field) and 0 <= field <= GREATEST_RANK
 
 
 def _can_be_word(word, part):

@@ -220,7 +220,9 @@ class Values(unittest.TestCase):
 
     def test_exponents(self):
         for where, node in nodes(ast.BinOp):
-            if isinstance(node.op, ast.Pow) and isinstance(node.right, ast.Constant):
+            if isinstance(node.op, ast.Pow):
+                # No exponent is a name here, though some could be.
+                self.assertIsInstance(node.right, ast.Constant, where)
                 self.assertIn(node.right.value, range(65), where)
 
     def test_escapes(self):
